@@ -56,7 +56,15 @@ def backwards(folds):
 
 
 def way_of(folds, count):
-    part = (count & -count).bit_length() - 1
+    return in_turn(folds[part_of(count)], count)
+
+
+def part_of(count):
+    return (count & -count).bit_length() - 1
+
+
+# Exchanging undoes itself, so this leads from a fold to the way of its crease as well as back from there to the fold.
+def in_turn(letter, count):
     # The odd number that is left when the 2s are gone tells the place within the part, from 0 on, by its half.
-    place = count >> (part + 1)
-    return OTHER[folds[part]] if place & 1 else folds[part]
+    place = count >> (part_of(count) + 1)
+    return OTHER[letter] if place & 1 else letter

@@ -1,9 +1,11 @@
-"""Points 1 and 2 and the interface: what is refused, as what, and what is just not refused."""
+"""Points 1, 2, 4 and 6 and the interface: what is refused, as what, and what is just not refused."""
 
 import unittest
 
 from foldcurve.creases import backwards, crease, creases, exchanged, lefts, steps
-from foldcurve.errors import BadCrease, BadFolds
+from foldcurve.errors import BadCrease, BadFolds, BadSteps, BadTurns
+from foldcurve.turns import told
+from foldcurve.way import heading, place
 
 # A number of so many digits can't be written out by Python without more ado: a refusal must not try.
 HUGE = 1 << 40000
@@ -31,6 +33,8 @@ NO_FOLDS = (
     str, len, iter("lr"), object(), Unshowable(), ValueError("lr"),
 )
 
+NO_TURNS = ("",) + NO_FOLDS
+
 # None of these is a whole number, whatever the folds are.
 NO_NUMBERS = (
     True, False, None, "", "1", "l", b"1", 0.0, 1.0, 2.5, float("nan"), float("inf"), 1j, ...,
@@ -43,41 +47,47 @@ SOME_FOLDS = ("", "l", "r", "lr", "rrl", "lrrl" * 100)
 class Refusals(unittest.TestCase):
     def refused(self, refusal, function, *handed):
         try:
-            told = function(*handed)
+            answer = function(*handed)
         except Exception as error:
             if type(error) is not refusal:
                 self.fail(f"{function.__name__}: {type(error).__name__} in the place of {refusal.__name__}")
         else:
-            self.fail(f"{function.__name__}: not refused, but {type(told).__name__}")
+            self.fail(f"{function.__name__}: not refused, but {type(answer).__name__}")
 
 
 class NoFolds(Refusals):
     def test_folds_alone(self):
-        for place, folds in enumerate(NO_FOLDS):
-            with self.subTest(place=place):
+        for row, folds in enumerate(NO_FOLDS):
+            with self.subTest(row=row):
                 for function in (steps, exchanged, backwards):
                     self.refused(BadFolds, function, folds)
 
     def test_folds_with_numbers_within_bounds(self):
-        for place, folds in enumerate(NO_FOLDS):
-            with self.subTest(place=place):
+        for row, folds in enumerate(NO_FOLDS):
+            with self.subTest(row=row):
                 self.refused(BadFolds, crease, folds, 1)
                 self.refused(BadFolds, lefts, folds, 0)
                 self.refused(BadFolds, creases, folds, 1, 0)
+                for many in (0, 1):
+                    self.refused(BadFolds, place, folds, many)
+                    self.refused(BadFolds, heading, folds, many)
 
     def test_one_wrong_letter_among_many(self):
-        for place in (0, 1, 250, 498, 499):
+        for wrong in (0, 1, 250, 498, 499):
             letters = ["l"] * 500
-            letters[place] = "L"
+            letters[wrong] = "L"
             for function in (steps, exchanged, backwards):
                 self.refused(BadFolds, function, "".join(letters))
             self.refused(BadFolds, crease, "".join(letters), 1)
             self.refused(BadFolds, lefts, "".join(letters), 1)
             self.refused(BadFolds, creases, "".join(letters), 1, 1)
+            self.refused(BadFolds, place, "".join(letters), 1)
+            self.refused(BadFolds, heading, "".join(letters), 1)
+            self.refused(BadTurns, told, "".join(letters), 1)
 
     def test_both_wrong(self):
-        for place, folds in enumerate(NO_FOLDS):
-            with self.subTest(place=place):
+        for row, folds in enumerate(NO_FOLDS):
+            with self.subTest(row=row):
                 for number in NO_NUMBERS + (0, -1, HUGE, -HUGE):
                     self.refused(BadFolds, crease, folds, number)
                     self.refused(BadFolds, creases, folds, number, 0)
@@ -85,13 +95,15 @@ class NoFolds(Refusals):
                 for number in NO_NUMBERS + (-1, HUGE, -HUGE):
                     self.refused(BadFolds, lefts, folds, number)
                     self.refused(BadFolds, creases, folds, 1, number)
+                    self.refused(BadFolds, place, folds, number)
+                    self.refused(BadFolds, heading, folds, number)
 
 
 class NoCrease(Refusals):
     def test_no_numbers(self):
-        for place, number in enumerate(NO_NUMBERS):
+        for row, number in enumerate(NO_NUMBERS):
             for folds in SOME_FOLDS:
-                with self.subTest(place=place, folds=folds):
+                with self.subTest(row=row, folds=folds):
                     self.refused(BadCrease, crease, folds, number)
                     self.refused(BadCrease, lefts, folds, number)
                     self.refused(BadCrease, creases, folds, number, 0)
@@ -135,6 +147,48 @@ class NoCrease(Refusals):
                         self.assertEqual(len(creases(folds, first, many)), many)
 
 
+class NoSteps(Refusals):
+    def test_no_numbers(self):
+        for row, number in enumerate(NO_NUMBERS):
+            for folds in SOME_FOLDS:
+                with self.subTest(row=row, folds=folds):
+                    self.refused(BadSteps, place, folds, number)
+                    self.refused(BadSteps, heading, folds, number)
+
+    def test_out_of_bounds(self):
+        for folds in SOME_FOLDS:
+            whole = 2 ** len(folds)
+            with self.subTest(folds=folds):
+                for many in (-1, -whole, -HUGE, whole + 1, whole + 2, 2 * whole + 1, HUGE):
+                    self.refused(BadSteps, place, folds, many)
+                    self.refused(BadSteps, heading, folds, many)
+
+
+class NoTurns(Refusals):
+    def test_no_turns(self):
+        for row, turns in enumerate(NO_TURNS):
+            with self.subTest(row=row):
+                for first in (1, 2, HUGE):
+                    self.refused(BadTurns, told, turns, first)
+
+    def test_no_numbers(self):
+        for row, number in enumerate(NO_NUMBERS):
+            for turns in ("l", "r", "lr", "lll", "lrrl" * 100):
+                with self.subTest(row=row, turns=turns):
+                    self.refused(BadCrease, told, turns, number)
+
+    def test_out_of_bounds(self):
+        for turns in ("l", "r", "lr", "lll", "lrrl" * 100):
+            for first in (0, -1, -2, -len(turns), -HUGE):
+                self.refused(BadCrease, told, turns, first)
+
+    def test_both_wrong(self):
+        for row, turns in enumerate(NO_TURNS):
+            with self.subTest(row=row):
+                for number in NO_NUMBERS + (0, -1, -HUGE):
+                    self.refused(BadTurns, told, turns, number)
+
+
 class JustWithinBounds(unittest.TestCase):
     def test_crease(self):
         for folds in SOME_FOLDS[1:]:
@@ -151,6 +205,17 @@ class JustWithinBounds(unittest.TestCase):
             whole = 2 ** len(folds)
             for many in range(min(whole, 50)):
                 self.assertEqual(len(creases(folds, whole - many, many)), many)
+
+    def test_way(self):
+        for folds in SOME_FOLDS:
+            for many in (0, 1, 2 ** len(folds) - 1, 2 ** len(folds)):
+                self.assertEqual(len(place(folds, many)), 2)
+                self.assertIn(heading(folds, many), (0, 1, 2, 3))
+
+    def test_told(self):
+        for first in (1, 2, HUGE):
+            for turns in ("l", "r", "lr"):
+                self.assertIs(told(turns, first).shows(turns, first), True)
 
     def test_no_folds_at_all(self):
         self.assertEqual((steps(""), lefts("", 0), creases("", 1, 0)), (1, 0, ""))
